@@ -183,16 +183,16 @@ func TestMuxByNoEdge(t *testing.T) {
 	}
 }
 
-// TestForeignBits: nothing is promised of vectors with numbers that are no edges of the graph, but no call panics.
+// TestForeignBits: nothing is promised of vectors with numbers that are no edges of the graph, but no call panics, and what it answers are edges.
 func TestForeignBits(t *testing.T) {
 	strange := []int{-1, math.MinInt, 1 << 40, math.MaxInt, -2, 12, 13, 14}
 	for _, o := range operations {
 		g := graph.New()
 		v := bits.Inputs(g, 3)
-		if got := o.edges(g, strange, v); len(got) != o.wide(len(strange)) {
+		if got := o.edges(g, strange, v); len(got) != o.wide(len(strange)) || !own(g, got) {
 			t.Errorf("%s: %v", o.name, got)
 		}
-		if got := o.edges(g, v, strange); len(got) != o.wide(len(strange)) {
+		if got := o.edges(g, v, strange); len(got) != o.wide(len(strange)) || !own(g, got) {
 			t.Errorf("%s: %v", o.name, got)
 		}
 	}
